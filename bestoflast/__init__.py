@@ -1,0 +1,1 @@
+"""Bestoflast: the last results in their order."""

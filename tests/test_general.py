@@ -1,0 +1,101 @@
+"""The interface, and what the package is made of."""
+
+import ast
+import inspect
+import pathlib
+import unittest
+
+import bestoflast
+from bestoflast import bills, errors, rules
+
+FOLDER = pathlib.Path(bestoflast.__file__).parent
+LIBRARY = {"heapq", "math", "itertools"}
+FUNCTIONS = {
+    rules: {
+        "need_rule": ["thing"],
+        "need_row": ["thing"],
+        "index": ["rule", "row"],
+        "indexes": ["rule", "row"],
+        "layer": ["row", "level"],
+    },
+    bills: {
+        "need_bill": ["thing"],
+        "width": ["bill"],
+        "pays": ["bill", "row"],
+        "worth": ["bill", "row"],
+        "added": ["bill", "other"],
+    },
+}
+CLASSES = {
+    errors: {
+        "BadRule": ["number"],
+        "BadRow": ["number"],
+        "BadBill": ["part"],
+        "BadNumber": ["value"],
+        "BadKind": ["value"],
+        "BadPaper": ["part"],
+        "BadText": ["line"],
+        "Nothing": ["value"],
+    },
+}
+
+
+def arguments(call):
+    """The names of the arguments, all of them by place or by name and none with a default."""
+    told = inspect.signature(call).parameters.values()
+    plain = inspect.Parameter.POSITIONAL_OR_KEYWORD
+    return [one.name for one in told if one.kind == plain and one.default is inspect.Parameter.empty]
+
+
+class Interface(unittest.TestCase):
+
+    def test_names_and_arguments(self):
+        for told in (FUNCTIONS, CLASSES):
+            for module, names in told.items():
+                for name, wanted in names.items():
+                    call = getattr(module, name)
+                    self.assertEqual(arguments(call), wanted, name)
+                    self.assertEqual(len(inspect.signature(call).parameters), len(wanted), name)
+                    self.assertEqual(call.__module__, module.__name__, name)
+
+    def test_errors_are_made_in_their_own_class(self):
+        for name in CLASSES[errors]:
+            self.assertIn("__init__", vars(getattr(errors, name)))
+
+
+class Source(unittest.TestCase):
+
+    def files(self):
+        found = sorted(FOLDER.rglob("*.py"))
+        self.assertTrue(found)
+        return [(path, path.read_text(encoding="utf-8")) for path in found]
+
+    def test_the_folder_contains_nothing_else(self):
+        for path in FOLDER.rglob("*"):
+            if "__pycache__" not in path.parts and not path.is_dir():
+                self.assertEqual(path.suffix, ".py", path)
+
+    def test_only_the_package_and_its_library_are_imported(self):
+        for path, text in self.files():
+            for node in ast.walk(ast.parse(text)):
+                self.assertNotIsInstance(node, ast.Import, path)
+                if isinstance(node, ast.ImportFrom):
+                    self.assertEqual(node.level, 0, path)
+                    self.assertTrue(node.module.startswith("bestoflast.") or node.module in LIBRARY, path)
+
+    def test_no_floats(self):
+        for path, text in self.files():
+            for node in ast.walk(ast.parse(text)):
+                self.assertNotIsInstance(node, ast.Div, path)
+                if isinstance(node, ast.Constant):
+                    self.assertNotIsInstance(node.value, float, path)
+
+    def test_sizes_and_signs(self):
+        for path, text in self.files():
+            lines = text.split("\n")
+            self.assertLess(len(lines), 400, path)
+            self.assertLessEqual(max(map(len, lines)), 120, path)
+            self.assertTrue(all(sign == "\n" or " " <= sign <= "~" for sign in text), path)
+            for node in ast.walk(ast.parse(text)):
+                if isinstance(node, ast.FunctionDef):
+                    self.assertLessEqual(node.end_lineno - node.lineno, 39, (path, node.name))
