@@ -1,7 +1,7 @@
 """RULES and ROWS, the INDEX by a RULE behind a ROW, and the LAYERS of a ROW."""
 
 from bestoflast.errors import BadNumber, BadRow, BadRule
-from bestoflast.kinds import first_outside, is_int, is_tuple
+from bestoflast.kinds import first_outside, is_int, is_int_within, is_tuple
 
 MOST_WEIGHTS = 6
 GREATEST_WEIGHT = 20
@@ -26,6 +26,11 @@ def is_rule(thing):
     except BadRule:
         return False
     return True
+
+
+def is_result(thing):
+    """Whether a thing is a RESULT."""
+    return is_int_within(thing, 0, GREATEST_RESULT)
 
 
 def need_row(thing):

@@ -6,7 +6,7 @@ import pathlib
 import unittest
 
 import bestoflast
-from bestoflast import bills, errors, rules
+from bestoflast import bills, bounds, errors, files, rules, texts, worse
 
 FOLDER = pathlib.Path(bestoflast.__file__).parent
 LIBRARY = {"heapq", "math", "itertools"}
@@ -25,6 +25,30 @@ FUNCTIONS = {
         "worth": ["bill", "row"],
         "added": ["bill", "other"],
     },
+    bounds: {
+        "is_bounded": ["bill"],
+        "greatest": ["bill"],
+        "best_row": ["bill"],
+        "bound_paper": ["bill"],
+        "check_bound": ["bill", "paper"],
+    },
+    worse: {
+        "gain": ["bill", "row", "other"],
+        "greatest_gain": ["bill", "kind"],
+        "gain_rows": ["bill", "kind"],
+        "does_pay": ["bill", "kind"],
+        "worse_paper": ["bill"],
+        "check_worse": ["bill", "paper"],
+    },
+    files: {
+        "under": ["manager", "deed"],
+    },
+    texts: {
+        "bill_text": ["bill"],
+        "read_bill": ["string"],
+        "row_text": ["row"],
+        "read_row": ["string"],
+    },
 }
 CLASSES = {
     errors: {
@@ -36,6 +60,9 @@ CLASSES = {
         "BadPaper": ["part"],
         "BadText": ["line"],
         "Nothing": ["value"],
+    },
+    files: {
+        "File": ["bill"],
     },
 }
 
