@@ -2,67 +2,72 @@
 
 from bestoflast.bills import need_bill, width_of
 from bestoflast.errors import BadPaper
-from bestoflast.graphs import bit_graph, places_of
-from bestoflast.papers import MOST_BITS, are_bits, are_heights, does_ring_pay, need_word, row_pays
-from bestoflast.walks import best_walk, climb, greatest_of
+from bestoflast.graphs import BITS, OF_BITS, bit_pays, number_of, signs_of
+from bestoflast.kinds import is_tuple
+from bestoflast.papers import (
+    MOST_BITS, are_bits, are_heights, do_heights_hold, need_word, paid_by, ring_paid,
+)
+from bestoflast.walks import best_walk, climb
 
 FORMS = (("bound", 3), ("ring", 3))
 
 
 def is_bounded(bill):
     """Whether there is a number that no BIT ROW has a WORTH above."""
-    _, ring = climb(bit_graph(need_bill(bill)))
+    _, ring = climb(bit_pays(need_bill(bill)), OF_BITS)
     return ring is None
 
 
 def greatest(bill):
     """The GREATEST of a BILL, or None if it is not bounded."""
-    layers, ring = climb(bit_graph(need_bill(bill)))
+    layers, ring = climb(bit_pays(need_bill(bill)), OF_BITS)
     if ring is not None:
         return None
     return max(layers[-1])
 
 
-def best_row_of(bill, graph, layers):
+def best_row_of(bill, pays, layers):
     """The first one of the shortest BIT ROWS whose WORTH is the GREATEST."""
-    start, bits = best_walk(graph, layers, list(range(len(graph))))
-    return places_of(bill)[start] + bits
+    start, bits = best_walk(pays, layers, list(range(len(layers[0]))), OF_BITS)
+    return signs_of(start, BITS, width_of(bill)) + bits
 
 
 def best_row(bill):
     """The first one of the shortest BIT ROWS whose WORTH is the GREATEST, or None."""
-    graph = bit_graph(need_bill(bill))
-    layers, ring = climb(graph)
+    pays = bit_pays(need_bill(bill))
+    layers, ring = climb(pays, OF_BITS)
     if ring is not None:
         return None
-    return best_row_of(bill, graph, layers)
+    return best_row_of(bill, pays, layers)
 
 
 def bound_paper(bill):
     """The paper on whether a BILL is bounded."""
-    graph = bit_graph(need_bill(bill))
-    layers, ring = climb(graph)
+    pays = bit_pays(need_bill(bill))
+    layers, ring = climb(pays, OF_BITS)
     if ring is None:
-        return ("bound", tuple(layers[-1]), best_row_of(bill, graph, layers))
+        return ("bound", tuple(layers[-1]), best_row_of(bill, pays, layers))
     start, bits = ring
-    return ("ring", places_of(bill)[start], bits)
+    return ("ring", signs_of(start, BITS, width_of(bill)), bits)
 
 
 def does_bound_hold(bill, heights, row):
     """Whether these are HEIGHTS and a ROW of a paper "bound"."""
     wide = width_of(bill)
-    if not are_bits(row, wide, MOST_BITS):
+    if not is_tuple(row, wide, MOST_BITS) or not are_bits(row[:wide], wide, wide):
         return False
-    graph = bit_graph(bill)
-    return are_heights(heights, graph) and row_pays(graph, row, wide) == max(heights)
+    if not are_heights(heights, OF_BITS, wide):
+        return False
+    pays = bit_pays(bill)
+    if not do_heights_hold(heights, pays, OF_BITS):
+        return False
+    return paid_by(pays, number_of(row[:wide]), row[wide:]) == max(heights)
 
 
 def does_ring_hold(bill, place, bits):
     """Whether these are a PLACE and a RING of a paper "ring"."""
-    wide = width_of(bill)
-    if not are_bits(place, wide, wide) or not are_bits(bits, 1, MOST_BITS):
-        return False
-    return does_ring_pay(bit_graph(bill), place, bits)
+    paid = ring_paid(bill, place, bits)
+    return paid is not None and paid > 0
 
 
 def check_bound(bill, paper):

@@ -1,90 +1,101 @@
-"""PLACES and COUPLES, and what a further bit or pair of bits pays behind each of them.
+"""PLACES and COUPLES by their numbers, and what a further sign pays behind each of them.
 
-Both are tuples of WIDTH signs, a sign being a bit or a pair of bits, and have numbers, ascending.
-A graph is a list: for each number, the steps that there are from there, a dict that tells of each
-further sign what it pays, and the number of what is behind it.
+A sign is a bit of a PLACE, or a pair of bits of a COUPLE; the base is how many signs there are. A
+window is a PLACE or a COUPLE with a further sign. Each of them has a number, its signs being the
+figures of this in the base, the first one the greatest. So a window begins with the PLACE whose
+number is its own one divided by the base, and ends with that whose number is what is left of its
+own one divided by how many PLACES there are. A list of pays tells for each window what its last
+sign pays.
 """
 
-from bestoflast.bills import last_pay, width_of
+from bestoflast.bills import width_of
+from bestoflast.rules import indexes_by_ones
 
 BITS = (0, 1)
-UNLIKE = (0, 1)
-PAIRS = ((0, 0), UNLIKE, (1, 1))
+PAIRS = ((0, 0), (0, 1), (1, 1))
+OF_BITS = 2
+OF_PAIRS = 3
 
 
-def tuples_of(signs, many):
-    """All tuples of so many of the signs, ascending as the signs are."""
-    tuples = [()]
-    for _ in range(many):
-        tuples = [front + (sign,) for front in tuples for sign in signs]
-    return tuples
+def many_of(base, wide):
+    """How many tuples of so many signs there are."""
+    many = 1
+    for _ in range(wide):
+        many = base * many
+    return many
 
 
-def graph_of(signs, wide, pay):
-    """The graph over all tuples of so many signs.
-
-    Of each of them and a further sign, all in one tuple, pay tells what is paid.
-    """
-    windows = tuples_of(signs, wide + 1)
-    many = len(windows) // len(signs)
-    graph = [{} for _ in range(many)]
-    for number, window in enumerate(windows):
-        # The first sign of a window is its greatest figure, the last one its least.
-        graph[number // len(signs)][window[-1]] = (pay(window), number % many)
-    return graph
+def signs_of(number, signs, wide):
+    """The tuple of so many of the signs that has this number."""
+    told = []
+    for _ in range(wide):
+        number, figure = divmod(number, len(signs))
+        told.append(signs[figure])
+    return tuple(told[::-1])
 
 
-def places_of(bill):
-    """All PLACES of a BILL."""
-    return tuples_of(BITS, width_of(bill))
+def number_of(bits):
+    """The number of a tuple of bits."""
+    number = 0
+    for bit in bits:
+        number = OF_BITS * number + bit
+    return number
 
 
-def couples_of(bill):
-    """All COUPLES of a BILL."""
-    return tuples_of(PAIRS, width_of(bill))
+def ones_of(wide):
+    """For each tuple of so many bits, ascending, how many ones are in it."""
+    ones = [0]
+    for _ in range(wide):
+        ones = ones + [many + 1 for many in ones]
+    return ones
 
 
-def firsts(pairs):
-    """The first ones of pairs: the bits of the ROW that is not the worse one."""
-    return tuple([pair[0] for pair in pairs])
+def term_pays(term, wide):
+    """What a TERM pays for each window of a PLACE of so many bits and a further one."""
+    rule, ahead, behind = term
+    told = indexes_by_ones(rule)
+    indexes = [told[ones] for ones in ones_of(len(rule))]
+    # Of N bits and a further one, the first N are the same in two that stand side by side.
+    fronts = [index for index in indexes for _ in BITS]
+    pays = [ahead * front + behind * back for front, back in zip(fronts, indexes * OF_BITS)]
+    return pays * (1 << (wide - len(rule)))
 
 
-def seconds(pairs):
-    """The second ones of pairs: the bits of the worse ROW."""
-    return tuple([pair[1] for pair in pairs])
-
-
-def bit_graph(bill):
-    """The graph of the PLACES: what each further bit pays."""
-    return graph_of(BITS, width_of(bill), lambda bits: last_pay(bill, bits))
-
-
-def pair_graph(bill):
-    """The graph of the COUPLES: what each further pair of bits pays more by the worse ROW."""
+def bit_pays(bill):
+    """What each further bit pays behind each PLACE."""
+    own, terms = bill
     wide = width_of(bill)
-    # A table, as each of these stands in many pairs.
-    paid = {bits: last_pay(bill, bits) for bits in tuples_of(BITS, wide + 1)}
-    return graph_of(PAIRS, wide, lambda pairs: paid[seconds(pairs)] - paid[firsts(pairs)])
+    pays = [0, own] * (1 << wide)
+    for term in terms:
+        pays = [paid + more for paid, more in zip(pays, term_pays(term, wide))]
+    return pays
 
 
-def once_steps(couple, steps, end):
-    """The steps from a COUPLE by which there is one pair (0, 1) in all, and by it at once."""
-    if UNLIKE not in couple:
-        return {UNLIKE: steps[UNLIKE]}
-    like = {sign: steps[sign] for sign in PAIRS if sign != UNLIKE}
-    if couple[0] == UNLIKE:
-        return {sign: (pay, end) for sign, (pay, _) in like.items()}
-    return like
+def pays_of_firsts(pays):
+    """For each window of pairs, what the bits pay that stand first in them."""
+    parts = [[pay] for pay in pays]
+    while len(parts) > 1:
+        # The least figures go first: two bits side by side, of which two pairs begin with 0.
+        parts = [zero + zero + one for zero, one in zip(parts[0::OF_BITS], parts[1::OF_BITS])]
+    return parts[0]
 
 
-def once_graph(bill):
-    """The graph of the COUPLES for once worse ROWS, with an end behind them, without steps.
+def pays_of_seconds(pays):
+    """For each window of pairs, what the bits pay that stand second in them: the worse ROW's."""
+    parts = [[pay] for pay in pays]
+    while len(parts) > 1:
+        parts = [zero + one + one for zero, one in zip(parts[0::OF_BITS], parts[1::OF_BITS])]
+    return parts[0]
 
-    From COUPLES without (0, 1) on, no COUPLE with more than one such pair is come to.
-    """
-    couples = couples_of(bill)
-    # Like pairs ahead of the unlike one pay nothing more, nor do any where it is gone again from
-    # the last ones. So it comes at once, and the walk ends where it goes.
-    end = len(couples)
-    graph = pair_graph(bill)
-    return [once_steps(couple, steps, end) for couple, steps in zip(couples, graph)] + [{}]
+
+def pair_pays(pays):
+    """What each further pair of bits pays more by the worse ROW, behind each COUPLE."""
+    return [more - pay for pay, more in zip(pays_of_firsts(pays), pays_of_seconds(pays))]
+
+
+def like_couples(wide):
+    """The numbers of the COUPLES without (0, 1), ascending."""
+    numbers = [0]
+    for _ in range(wide):
+        numbers = [OF_PAIRS * number + figure for number in numbers for figure in (0, 2)]
+    return numbers

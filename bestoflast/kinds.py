@@ -4,7 +4,7 @@
 def is_int(thing):
     """Whether a thing is an integer."""
     # True and False are integers for Python, and none here.
-    return isinstance(thing, int) and not isinstance(thing, bool)
+    return isinstance(thing, int) and thing is not True and thing is not False
 
 
 def is_int_within(thing, least, most):
@@ -19,7 +19,8 @@ def is_tuple(thing, least, most):
 
 def first_outside(things, least, most):
     """The number of the first thing that is no integer from least to most, or None."""
+    # All in one row, as there can be many things: a call for each one takes several times as long.
     for number, thing in enumerate(things):
-        if not is_int_within(thing, least, most):
+        if not isinstance(thing, int) or thing is True or thing is False or not least <= thing <= most:
             return number
     return None

@@ -43,6 +43,15 @@ def need_row(thing):
     return thing
 
 
+def is_row(thing):
+    """Whether a thing is a ROW."""
+    try:
+        need_row(thing)
+    except BadRow:
+        return False
+    return True
+
+
 def need_row_of(thing, least):
     """The thing itself, if it is a ROW of at least so many RESULTS."""
     need_row(thing)
@@ -58,6 +67,15 @@ def index_of(rule, results):
     """
     last = sorted(results[-len(rule):])
     return sum([weight * result for weight, result in zip(rule, last)])
+
+
+def indexes_by_ones(rule):
+    """The INDEXES of bits: for 0 ones, 1, 2, .. up to N among them."""
+    told = [0]
+    # The ones are the greatest bits, so the last weights are theirs.
+    for weight in rule[::-1]:
+        told.append(told[-1] + weight)
+    return told
 
 
 def index(rule, row):

@@ -1,10 +1,15 @@
 """Whether worse ROWS pay: the GAIN of two ROWS, the GREATEST GAIN of a BILL, and the paper on it."""
 
+from bestoflast.apart import best_single
 from bestoflast.bills import need_bill, pays_of, width_of
 from bestoflast.errors import BadKind, BadPaper, BadRow
-from bestoflast.graphs import UNLIKE, couples_of, firsts, once_graph, pair_graph, seconds
+from bestoflast.graphs import (
+    OF_PAIRS, PAIRS, bit_pays, like_couples, number_of, pair_pays, signs_of,
+)
+from bestoflast.kinds import is_tuple
 from bestoflast.papers import (
-    MOST_BITS, are_bits, are_heights, are_pairs, does_ring_pay, need_word, row_pays,
+    MOST_BITS, are_bits, are_heights, are_pairs, do_heights_hold, does_lead_back, need_word,
+    paid_more,
 )
 from bestoflast.rules import need_row, need_row_of
 from bestoflast.walks import best_walk, climb, greatest_of
@@ -38,42 +43,47 @@ def gain(bill, row, other):
     return sum(pays_of(bill, other)) - sum(pays_of(bill, row))
 
 
-def starts_of(bill):
-    """The numbers of the COUPLES without (0, 1): both ROWS are the same in their first RESULTS."""
-    return [number for number, couple in enumerate(couples_of(bill)) if UNLIKE not in couple]
-
-
-def graph_of_kind(bill, kind):
-    """The graph of the COUPLES for worse ROWS of a kind."""
-    if kind == "once":
-        return once_graph(bill)
-    return pair_graph(bill)
-
-
 def greatest_gain(bill, kind):
     """The GREATEST GAIN of a kind, or None if there is none."""
-    need_bill(bill)
-    layers, ring = climb(graph_of_kind(bill, need_kind(kind)))
+    wide = width_of(need_bill(bill))
+    if need_kind(kind) == "once":
+        return max(0, best_single(bit_pays(bill), wide)[0])
+    layers, ring = climb(pair_pays(bit_pays(bill)), OF_PAIRS)
     if ring is not None:
         return None
-    return greatest_of(layers[-1], starts_of(bill))
+    return greatest_of(layers[-1], like_couples(wide))
 
 
-def rows_of_gain(bill, graph, layers):
+def rows_of(pairs):
+    """Two ROWS of pairs, the worse one behind."""
+    return tuple([pair[0] for pair in pairs]), tuple([pair[1] for pair in pairs])
+
+
+def rows_of_gain(pays, layers, wide):
     """A pair of BIT ROWS, the worse one behind, with the GREATEST GAIN and as few bits as can be."""
-    start, further = best_walk(graph, layers, starts_of(bill))
-    pairs = couples_of(bill)[start] + further
-    return (firsts(pairs), seconds(pairs))
+    start, figures = best_walk(pays, layers, like_couples(wide), OF_PAIRS)
+    return rows_of(signs_of(start, PAIRS, wide) + tuple([PAIRS[figure] for figure in figures]))
+
+
+def rows_of_single(bill):
+    """A pair of BIT ROWS, the second one once worse, with the GREATEST GAIN, as short as can be."""
+    wide = width_of(bill)
+    paid, row, worse = best_single(bit_pays(bill), wide)
+    if paid > 0:
+        return row, worse
+    return (0,) * wide, (0,) * wide
 
 
 def gain_rows(bill, kind):
     """A pair of BIT ROWS with the GREATEST GAIN of a kind and as few bits as can be, or None."""
-    need_bill(bill)
-    graph = graph_of_kind(bill, need_kind(kind))
-    layers, ring = climb(graph)
+    wide = width_of(need_bill(bill))
+    if need_kind(kind) == "once":
+        return rows_of_single(bill)
+    pays = pair_pays(bit_pays(bill))
+    layers, ring = climb(pays, OF_PAIRS)
     if ring is not None:
         return None
-    return rows_of_gain(bill, graph, layers)
+    return rows_of_gain(pays, layers, wide)
 
 
 def does_pay(bill, kind):
@@ -86,39 +96,48 @@ def does_pay(bill, kind):
 
 def worse_paper(bill):
     """The paper on whether there is a GREATEST GAIN of the kind "any"."""
-    graph = pair_graph(need_bill(bill))
-    layers, ring = climb(graph)
+    wide = width_of(need_bill(bill))
+    pays = pair_pays(bit_pays(bill))
+    layers, ring = climb(pays, OF_PAIRS)
     if ring is None:
-        row, worse = rows_of_gain(bill, graph, layers)
+        row, worse = rows_of_gain(pays, layers, wide)
         return ("bound", tuple(layers[-1]), row, worse)
-    start, pairs = ring
-    return ("ring", couples_of(bill)[start], pairs)
-
-
-def do_rows_hold(row, worse, wide):
-    """Whether these are two BIT ROWS of a paper, the second one worse by a BILL of this WIDTH."""
-    if not are_bits(row, wide, MOST_BITS) or not are_bits(worse, len(row), len(row)):
-        return False
-    return row[:wide] == worse[:wide] and all([one <= two for one, two in zip(row, worse)])
+    start, figures = ring
+    return ("ring", signs_of(start, PAIRS, wide), tuple([PAIRS[figure] for figure in figures]))
 
 
 def does_bound_hold(bill, heights, row, worse):
     """Whether these are HEIGHTS, a ROW and a worse one of a paper "bound"."""
     wide = width_of(bill)
-    if not do_rows_hold(row, worse, wide):
+    if not is_tuple(row, wide, MOST_BITS) or not is_tuple(worse, len(row), len(row)):
         return False
-    graph = pair_graph(bill)
-    if not are_heights(heights, graph):
+    place = row[:wide]
+    if not are_bits(place, wide, wide) or not are_bits(worse[:wide], wide, wide):
         return False
-    return row_pays(graph, list(zip(row, worse)), wide) == greatest_of(heights, starts_of(bill))
+    if worse[:wide] != place or not are_heights(heights, OF_PAIRS, wide):
+        return False
+    pays = bit_pays(bill)
+    if not do_heights_hold(heights, pair_pays(pays), OF_PAIRS):
+        return False
+    number = number_of(place)
+    paid = paid_more(pays, number, number, row[wide:], worse[wide:])
+    return paid == greatest_of(heights, like_couples(wide))
 
 
 def does_ring_hold(bill, couple, pairs):
     """Whether these are a COUPLE and a RING of a paper "ring"."""
     wide = width_of(bill)
-    if not are_pairs(couple, wide, wide) or not are_pairs(pairs, 1, MOST_BITS):
+    if not are_pairs(couple, wide, wide) or not is_tuple(pairs, 1, MOST_BITS):
         return False
-    return does_ring_pay(pair_graph(bill), couple, pairs)
+    if not does_lead_back(couple, pairs, are_pairs):
+        return False
+    for pair in pairs:
+        if not isinstance(pair, tuple) or len(pair) != 2:
+            return False
+    place, other = rows_of(couple)
+    bits, worse = rows_of(pairs)
+    paid = paid_more(bit_pays(bill), number_of(place), number_of(other), bits, worse)
+    return paid is not None and paid > 0
 
 
 def check_worse(bill, paper):

@@ -1,6 +1,7 @@
 """Plain searches over bit rows, papers looked at word by word, and bills for the tests of both."""
 
 import random
+from fractions import Fraction
 from itertools import product
 
 from bestoflast.bills import width
@@ -35,6 +36,12 @@ SMALL = (
     (-3, ((BEST, 1, 1), ((1,), 0, 1))), (-1, (((1, -1, 1), -4, 4), ((3, -2), 1, -1))),
     (0, (((1,), -5, 5), ((0, 0, 0, 1), 5, -5))), (-7, (((0, 0, 0, 7), 0, 1), ((1, 0), -2, 2))),
     (1, (((0, 1, 0, 0, 0), 0, -1), ((0, 0, 1), -2, 2))),
+)
+# Some in the middle: bits count most where they stand in lots.
+MIDDLE = (
+    (0, (((0, 1, 0), 0, 1),)), (-1, (((0, 1, 0), 0, 1),)), (-2, (((0, 1, 0), 1, 0),)),
+    (-3, (((0, 3, -1), 1, -2),)), (1, (((0, 0, 1, 0), -1, 3), ((0, 1, 0), -1, -2))),
+    (-1, (((0, 0, 1, 0, 0, 0), 0, 1),)), (-2, (((0, 0, 3, -1, 0, 0), 1, 0), ((0, 2, -5), 1, 1))),
 )
 
 # What a tuple is passed for, bits are passed for, and papers are.
@@ -176,3 +183,94 @@ def worse_ring_by_words(bill, couple, pairs):
     if len(couple) != wide or not 1 <= len(pairs) <= 10000 or row[len(row) - wide:] != couple:
         return False
     return (1, 0) not in row and sum(more(row[at - wide:at + 1]) for at in range(wide, len(row))) > 0
+
+
+def own_of(bill, own):
+    """The bill with another own."""
+    return (own, bill[1])
+
+
+def place_steps(bill):
+    """For each place: what each bit pays there, and the place behind it."""
+    table = paid(bill)
+    return {
+        row: {bit: (table[row + (bit,)], row[1:] + (bit,)) for bit in (0, 1)}
+        for row in product((0, 1), repeat=width(bill))
+    }
+
+
+def couple_steps(bill):
+    """For each couple: what each pair pays more by the worse one, and the couple behind it."""
+    more = more_by_words(bill)
+    return {
+        row: {pair: (more(row + (pair,)), row[1:] + (pair,)) for pair in PAIRS}
+        for row in product(PAIRS, repeat=width(bill))
+    }
+
+
+def rings_of(steps):
+    """All rings without a place twice: of each its least place, the signs, and what each pays."""
+    for start in sorted(steps):
+        ways = [(start, (), (), {start})]
+        while ways:
+            place, signs, pays, seen = ways.pop()
+            for sign, (pay, behind) in steps[place].items():
+                if behind == start:
+                    yield start, signs + (sign,), pays + (pay,)
+                elif behind > start and behind not in seen:
+                    ways.append((behind, signs + (sign,), pays + (pay,), seen | {behind}))
+
+
+def means_of(steps):
+    """The means of all rings without a place twice."""
+    return [Fraction(sum(pays), len(pays)) for _, _, pays in rings_of(steps)]
+
+
+def top_of(steps):
+    """The greatest mean of all rings, in Karp's way: by walks of just so many steps."""
+    many = len(steps)
+    numbers = {place: number for number, place in enumerate(steps)}
+    table = [[(pay, numbers[to]) for pay, to in ways.values()] for ways in steps.values()]
+    walks = [[0] * many]
+    for _ in range(many):
+        walks.append([max(pay + walks[-1][to] for pay, to in ways) for ways in table])
+    return max(
+        min(Fraction(walks[many][at] - walks[left][at], many - left) for left in range(many))
+        for at in range(many)
+    )
+
+
+def told(fraction):
+    """The pair of integers of a Fraction."""
+    return (fraction.numerator, fraction.denominator)
+
+
+def ring_pays(bill, place, bits):
+    """What the bits of a ring pay, one by one, or None if it is none."""
+    table, wide, row = paid(bill), width(bill), place + bits
+    if len(place) != wide or not 1 <= len(bits) <= 10000 or row[len(row) - wide:] != place:
+        return None
+    return [table[row[at - wide:at + 1]] for at in range(wide, len(row))]
+
+
+def top_by_words(bill, mean, heights, place, bits):
+    """The part of a paper on the top that is not as told, or None. The mean is a FRACTION."""
+    table = paid(bill)
+    if not by_words(bill, (0, 1), lambda row: mean[1] * table[row] - mean[0], heights):
+        return "heights"
+    pays = ring_pays(bill, place, bits)
+    if pays is None or Fraction(sum(pays), len(pays)) != Fraction(*mean):
+        return "ring"
+    return None
+
+
+def edge_by_words(bill, edge, heights, place, bits):
+    """The part of a paper on the edge that is not as told, or None. The edge is a FRACTION."""
+    bill = own_of(bill, 0)
+    table = paid(bill)
+    if not by_words(bill, (0, 1), lambda row: edge[1] * table[row] + edge[0] * row[-1], heights):
+        return "heights"
+    pays = ring_pays(bill, place, bits)
+    if pays is None or 1 not in bits or edge[1] * sum(pays) + edge[0] * sum(bits) != 0:
+        return "ring"
+    return None

@@ -8,7 +8,7 @@ from bestoflast.bounds import bound_paper, check_bound, greatest, is_bounded
 from bestoflast.errors import BadBill, BadPaper
 from tests.helper import NO_TUPLES, Case
 from tests.search import (
-    BEST, NO_BITS, NO_FORMS, NO_HEIGHTS, SIX, SIX_UP, SMALL, bills_by_chance, bound_by_words,
+    BEST, NO_BITS, NO_FORMS, NO_HEIGHTS, SIX, SIX_UP, SMALL, bills_by_chance, bound_by_words, own_of,
     ring_by_words,
 )
 
@@ -303,3 +303,35 @@ class Forms(Papers):
         self.refused(BadPaper, "part", "form", check_bound, (0, ()), told)
         self.refused(BadPaper, "part", "bound", check_bound, (0, ()), tuple(told))
         self.assertEqual(told, ["bound", [0, 0], [0]])
+
+
+class Long(Papers):
+
+    def test_papers_of_10000_bits(self):
+        self.assertEqual(check_bound((-1, ()), ("bound", (0, 0), (0,) * 10000)), "bound")
+        self.assertEqual(check_bound((1, ()), ("ring", (1,), (1,) * 10000)), "ring")
+
+    def test_a_part_otherwise(self):
+        zeros, ones = (0,) * 10000, (1,) * 10000
+        for at in (0, 1, 2, 5000, 9998, 9999):
+            one, other = zeros[:at] + (1,) + zeros[at + 1:], ones[:at] + (0,) + ones[at + 1:]
+            # The first bit of a row is its PLACE, and pays nothing.
+            self.assertEqual(self.judged((-1, ()), ("bound", (0, 0), one)), at == 0)
+            self.assertEqual(self.judged((1, ()), ("ring", (1,), other)), at != 9999)
+            self.assertEqual(self.judged((1, ()), ("ring", (0,), one)), at != 9999)
+            self.assertFalse(self.judged((-1, ()), ("ring", (0,), one)))
+        for heights in ((0, 1), (1, 0), (1, 1), (0, -1), (0,), (0, 0, 0)):
+            self.judged((-1, ()), ("bound", heights, zeros))
+        self.bad("bound", (-1, ()), "bound", (0, 0), zeros + (0,))
+        self.bad("ring", (1, ()), "ring", (1,), ones + (1,))
+        self.bad("ring", (1, ()), "ring", (0,), ones)
+
+    def test_a_thing_that_is_no_bit(self):
+        for bill in ((-1, ()), (-1, ((BEST, 0, 0),))):
+            wide = width(bill)
+            for at in (0, 1, 2, 3, 5000, 9996, 9997, 9998, 9999):
+                for thing in NO_BITS:
+                    row = (0,) * at + (thing,) + (0,) * (9999 - at)
+                    self.bad("bound", bill, "bound", (0,) * 2 ** wide, row)
+                    ring = (1,) * at + (thing,) + (1,) * (9999 - at)
+                    self.bad("ring", own_of(bill, 1), "ring", (1,) * wide, ring)

@@ -19,8 +19,8 @@ OWN = (1, ())
 WIDE_OWN = (1, ((BEST, 0, 0),))
 NO_PAIRS = (
     *NO_INTEGERS, *NO_TUPLES, 0, 1, (), (0,), (1,), (0, 1, 1), (0, 0, 0), (1, 0), (2, 2), (0, 2),
-    (-1, 0), (-1, -1), [0, 1], ((0, 1),), ((0, 1), (0, 1)), (0, True), (False, 1), (True, True),
-    (None, None), ("0", "1"), (0, 10 ** 59),
+    (-1, 0), (-1, -1), [0, 1], ((0, 1),), ((0, 1), (0, 1)), (0, True), (False, 1), (True, True), (True, 1),
+    (1, True), (False, 0), (0, False), (False, False), (False, True), (True, 0), (None, None), ("0", "1"), (0, 10 ** 59),
 )
 
 
@@ -182,6 +182,13 @@ class Bounds(Papers):
                     self.bad(word, bill, word, heights, one, worse)
                     self.bad(word, bill, word, heights, row, two)
                     self.bad(word, bill, word, heights, one, two)
+
+    def test_true_and_false_beside_a_bit(self):
+        # Of these, Python would say that the one is no less than the other one.
+        for one, other in ((True, 1), (1, True), (False, 1), (0, True), (False, 0), (0, False)):
+            for ahead in ((0,), (1,), (0, 1)):
+                self.bad("bound", (0, ()), "bound", (0, 0, 0), ahead + (one,), ahead + (other,))
+                self.bad("bound", (0, ()), "bound", (0, 0, 0), (one,) + ahead, (other,) + ahead)
 
     def test_row_and_worse_exchanged(self):
         for bill, (word, heights, row, worse) in self.bounds(BILLS):
@@ -376,3 +383,46 @@ class Forms(Papers):
         self.refused(BadPaper, "part", "form", check_worse, (0, ()), told)
         self.refused(BadPaper, "part", "bound", check_worse, (0, ()), tuple(told))
         self.assertEqual(told, ["bound", [0, 0, 0], [0], [0]])
+
+
+class Long(Papers):
+
+    def test_papers_of_10000_bits(self):
+        self.assertEqual(check_worse((1, ()), ("ring", ((0, 1),), ((0, 1),) * 10000)), "ring")
+        self.assertEqual(check_worse((-1, ()), ("bound", (0, 0, 0), (0,) * 10000, (0,) * 10000)), "bound")
+
+    def test_a_part_otherwise(self):
+        zeros, pairs = (0,) * 10000, ((0, 1),) * 10000
+        for at in (0, 1, 2, 5000, 9998, 9999):
+            one = zeros[:at] + (1,) + zeros[at + 1:]
+            self.bad("bound", (-1, ()), "bound", (0, 0, 0), zeros, one)
+            self.bad("bound", (-1, ()), "bound", (0, 0, 0), one, zeros)
+            self.taken((-1, ()), ("bound", (0, 0, 0), one, one))
+            for pair in ((0, 0), (1, 1), (1, 0)):
+                other = pairs[:at] + (pair,) + pairs[at + 1:]
+                self.assertEqual(self.judged((1, ()), ("ring", ((0, 1),), other)), pair != (1, 0) and at != 9999)
+                self.assertFalse(self.judged((-1, ()), ("ring", ((0, 1),), other)))
+        for heights in ((0, 0, 1), (0, 1, 0), (1, 1, 1), (0, 0, -1), (0, 0), (0, 0, 0, 0)):
+            self.judged((-1, ()), ("bound", heights, zeros, zeros))
+        self.bad("bound", (-1, ()), "bound", (0, 0, 0), zeros + (0,), zeros + (0,))
+        self.bad("bound", (-1, ()), "bound", (0, 0, 0), zeros, zeros[1:])
+        self.bad("ring", (1, ()), "ring", ((0, 1),), pairs + ((0, 1),))
+        self.bad("ring", (1, ()), "ring", ((0, 0),), pairs)
+        self.bad("ring", (1, ()), "ring", ((1, 1),), pairs)
+
+    def test_a_thing_that_is_no_bit(self):
+        for bill in ((-1, ()), (-1, ((BEST, 0, 0),))):
+            heights = (0,) * 3 ** width(bill)
+            for at in (0, 1, 2, 3, 5000, 9997, 9998, 9999):
+                for thing in NO_BITS:
+                    row = (0,) * at + (thing,) + (0,) * (9999 - at)
+                    self.bad("bound", bill, "bound", heights, row, (0,) * 10000)
+                    self.bad("bound", bill, "bound", heights, (0,) * 10000, row)
+
+    def test_a_thing_that_is_no_pair(self):
+        for bill in (OWN, WIDE_OWN):
+            couple = ((0, 1),) * width(bill)
+            for at in (0, 1, 2, 3, 5000, 9997, 9998, 9999):
+                for thing in NO_PAIRS:
+                    ring = ((0, 1),) * at + (thing,) + ((0, 1),) * (9999 - at)
+                    self.bad("ring", bill, "ring", couple, ring)
