@@ -7,6 +7,7 @@ from bestoflast.bills import width_of
 from bestoflast.errors import BadPaper
 from bestoflast.graphs import OF_BITS, PAIRS, bit_pays, many_of, number_of
 from bestoflast.kinds import first_outside, is_tuple
+from bestoflast.ratios import is_fraction
 
 MOST_BITS = 10000
 
@@ -16,6 +17,13 @@ def need_word(paper, forms):
     if not isinstance(paper, tuple) or not paper or not isinstance(paper[0], str):
         raise BadPaper("form")
     if (paper[0], len(paper)) not in forms:
+        raise BadPaper("form")
+    return paper[0]
+
+
+def need_fraction(paper):
+    """The FRACTION of a paper, if it is a quadruple with one first."""
+    if not is_tuple(paper, 4, 4) or not is_fraction(paper[0]):
         raise BadPaper("form")
     return paper[0]
 

@@ -70,13 +70,17 @@ def read_bill(string):
     return need_bill((numbers[0][0], tuple(terms)))
 
 
+def number_in_row(word):
+    """The integer of a word, as texts of ROWS have it."""
+    if not is_number(word, FIGURES_OF_A_ROW):
+        raise BadText(1)
+    return int(word)
+
+
 def read_row(string):
     """The ROW of a text."""
     if not isinstance(string, str):
         raise BadText(0)
     if string == NO_RESULTS:
         return ()
-    words = string.split(" ")
-    if not are_numbers(words, FIGURES_OF_A_ROW):
-        raise BadText(1)
-    return need_row(tuple([int(word) for word in words]))
+    return need_row(tuple([number_in_row(word) for word in string.split(" ")]))
