@@ -6,7 +6,9 @@ import pathlib
 import unittest
 
 import bestoflast
-from bestoflast import bills, bounds, errors, files, rules, texts, worse
+from bestoflast import (
+    beside, bills, bounds, desk, errors, files, means, owns, reach, rules, texts, told, turns, worse,
+)
 
 FOLDER = pathlib.Path(bestoflast.__file__).parent
 LIBRARY = {"heapq", "math", "itertools"}
@@ -49,6 +51,48 @@ FUNCTIONS = {
         "row_text": ["row"],
         "read_row": ["string"],
     },
+    means: {
+        "mean": ["bill", "place", "bits"],
+        "top": ["bill"],
+        "low": ["bill"],
+        "top_ring": ["bill"],
+        "top_paper": ["bill"],
+        "check_top": ["bill", "paper"],
+        "top_gain": ["bill"],
+    },
+    owns: {
+        "edge": ["bill"],
+        "edge_paper": ["bill"],
+        "check_edge": ["bill", "paper"],
+        "fair": ["bill"],
+        "fair_rows": ["bill"],
+    },
+    beside: {
+        "never_above": ["rule", "other", "rounds=0"],
+        "above_row": ["rule", "other", "rounds=0"],
+        "suits": ["rule", "other", "rounds=0"],
+    },
+    reach: {
+        "reach": ["rule", "row", "most", "rounds"],
+        "greatest_way": ["rule", "row", "most", "rounds"],
+        "soonest": ["rule", "row", "most", "goal"],
+        "rise": ["rule", "rounds"],
+        "fall": ["rule", "rounds"],
+        "rise_row": ["rule", "rounds"],
+    },
+    turns: {
+        "turned": ["bill", "row", "number"],
+        "turn": ["bill", "row", "number"],
+        "greatest_turn": ["bill"],
+        "turn_row": ["bill"],
+    },
+    told: {
+        "does_tell": ["row", "many"],
+        "telling_row": ["many"],
+        "rule_told": ["row", "numbers"],
+        "fitting": ["menu", "seen"],
+        "best_ask": ["menu", "seen", "size"],
+    },
 }
 CLASSES = {
     errors: {
@@ -64,21 +108,24 @@ CLASSES = {
     files: {
         "File": ["bill"],
     },
+    desk: {
+        "Desk": ["text"],
+    },
 }
 
 
 def arguments(call):
-    """The names of the arguments, all of them by place or by name and none with a default."""
-    told = inspect.signature(call).parameters.values()
+    """The names of the arguments by place or by name, some with a default behind."""
+    found = inspect.signature(call).parameters.values()
     plain = inspect.Parameter.POSITIONAL_OR_KEYWORD
-    return [one.name for one in told if one.kind == plain and one.default is inspect.Parameter.empty]
+    return [str(one) for one in found if one.kind == plain]
 
 
 class Interface(unittest.TestCase):
 
     def test_names_and_arguments(self):
-        for told in (FUNCTIONS, CLASSES):
-            for module, names in told.items():
+        for table in (FUNCTIONS, CLASSES):
+            for module, names in table.items():
                 for name, wanted in names.items():
                     call = getattr(module, name)
                     self.assertEqual(arguments(call), wanted, name)
